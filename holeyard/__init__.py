@@ -1,0 +1,1 @@
+"""Holeyard: cells put together, and the holes between them."""
