@@ -79,13 +79,22 @@ def cells_within(top):
     return found
 
 
+def every_cell(net):
+    found = []
+    for top in net[1]:
+        found.extend(cells_within(top))
+    return sorted(set(found))
+
+
+def cells_of_height(net, height):
+    # Nothing is refused here: a net with somewhat more corners than told is still answered where no point refuses it.
+    return tuple([cell for cell in every_cell(net) if len(cell) - 1 == height])
+
+
 def cells(net, height):
     if not is_net(net):
         raise NoNet("only a net has cells")
-    found = []
-    for top in net[1]:
-        found.extend([cell for cell in cells_within(top) if len(cell) - 1 == height])
-    return tuple(sorted(set(found)))
+    return cells_of_height(net, height)
 
 
 def net_of(some, many):

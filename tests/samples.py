@@ -4,7 +4,9 @@ Nothing here draws from the program, so that what it answers is held against som
 """
 
 import re
+from collections import Counter
 from itertools import combinations
+from random import Random
 
 
 def all_cells(many):
@@ -73,6 +75,103 @@ LARGE_NETS = [
     (6, ((0, 1, 2), (0, 3, 4), (1, 3, 5), (2, 4, 5))),
     (5, ((0, 1, 2, 3), (0, 4), (1, 4))),
 ]
+
+
+# A ball's shell of height k has all cells of k + 2 corners but the one of all.
+SHELLS = [(many, tuple(combinations(range(many), many - 1))) for many in range(2, 9)]
+
+# A band closed the wrong way: each edge is in just two of the ten cells, and so is each edge of the tyre.
+WRONG_BAND = (6, ((0, 1, 2), (0, 1, 3), (0, 2, 4), (0, 3, 5), (0, 4, 5),
+                  (1, 2, 5), (1, 3, 4), (1, 4, 5), (2, 3, 4), (2, 3, 5)))
+TYRE = (7, tuple(sorted(
+    tuple(sorted((start % 7, (start + step) % 7, (start + 3) % 7))) for start in range(7) for step in (1, 2)
+)))
+
+NAMED_NETS = SHELLS + [WRONG_BAND, TYRE]
+
+
+def plain_tops(some):
+    sets = [frozenset(cell) for cell in some]
+    return tuple(sorted(tuple(sorted(one)) for one in set(sets) if not any(one < other for other in sets)))
+
+
+def plain_net(some):
+    """The net of some cells, one at least, of whatever corners: these are numbered anew in their order."""
+    corners = sorted({corner for cell in some for corner in cell})
+    return (len(corners), plain_tops([tuple(corners.index(corner) for corner in cell) for cell in some]))
+
+
+def drawn_net(draw, many):
+    some = [draw.sample(range(many), draw.randint(1, min(many, 5))) for _ in range(draw.randint(1, 14))]
+    return (many, plain_tops(some + [[corner] for corner in range(many)]))
+
+
+# The draw begins at a written number, so that each run asks the same.
+DRAWN_NETS = [drawn_net(draw, many) for draw in [Random(2)] for many in (5, 6, 7, 8) for _ in range(12)]
+
+VARIED_NETS = SMALL_NETS + LARGE_NETS + NAMED_NETS + DRAWN_NETS
+
+
+def height_of(net):
+    return max(len(top) for top in net[1]) - 1
+
+
+def every_plain_cell(net):
+    return sorted(cell for height in range(height_of(net) + 1) for cell in plain_cells(net, height))
+
+
+def plain_sum(*chains):
+    seen = Counter(cell for chain in chains for cell in chain)
+    return tuple(sorted(cell for cell in seen if seen[cell] % 2 == 1))
+
+
+def plain_rim(chain):
+    seen = Counter(side for cell in chain for side in combinations(cell, len(cell) - 1))
+    return tuple(sorted(side for side in seen if side and seen[side] % 2 == 1))
+
+
+def plain_rounds(net, height):
+    return [chain for chain in plain_chains(net, height) if not plain_rim(chain)]
+
+
+def plain_rank(chains):
+    rank, rows = 0, [set(chain) for chain in chains if chain]
+    while rows:
+        row = rows.pop()
+        rank, pivot = rank + 1, min(row)
+        rows = [other for other in (other ^ row if pivot in other else other for other in rows) if other]
+    return rank
+
+
+def plain_holes(net):
+    top = height_of(net)
+    ranks = [plain_rank([plain_rim((cell,)) for cell in plain_cells(net, height)]) for height in range(top + 2)]
+    return tuple(len(plain_cells(net, height)) - ranks[height] - ranks[height + 1] for height in range(top + 1))
+
+
+def plain_round_basis(net, height):
+    """Rounds of which each round of this height is just one sum."""
+    rounds, rows = [], [(set(plain_rim((cell,))), {cell}) for cell in plain_cells(net, height)]
+    while rows:
+        row, parts = rows.pop()
+        if row:
+            pivot = min(row)
+            rows = [(one ^ row, own ^ parts) if pivot in one else (one, own) for one, own in rows]
+        else:
+            rounds.append(tuple(sorted(parts)))
+    return rounds
+
+
+def drawn_sums(draw, chains, number):
+    return [plain_sum(*[chain for chain in chains if draw.random() < 0.5]) for _ in range(number)]
+
+
+def meant(holes):
+    """Holes without the one of height 0 that each net has, and without noughts at the end."""
+    left = [holes[0] - 1] + list(holes[1:])
+    while left and left[-1] == 0:
+        left.pop()
+    return left
 
 
 def deep(inner, depth, wrap):

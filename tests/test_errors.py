@@ -3,9 +3,12 @@
 import unittest
 
 from holeyard import errors
+from holeyard.changing import against, around, beside, over, taken_off, tip, two_tips, without
 from holeyard.errors import HoleError, NoNet, NoRoom, NoRound, NoText, NotFree
+from holeyard.filling import witness
+from holeyard.holes import alike
 from holeyard.reading import read
-from holeyard.things import net_of
+from holeyard.things import cells, net_of
 from holeyard.writing import written
 
 KINDS = (NoNet, NoText, NoRound, NotFree, NoRoom)
@@ -42,7 +45,16 @@ class Refusals(unittest.TestCase):
             self.assertEqual("why", str(kind("why")))
 
     def test_each_refusal_is_caught_by_its_own_class_and_by_hole_error_alone(self):
-        asked = [(NoNet, net_of, ((), 1)), (NoNet, written, (None,)), (NoText, read, ("",))]
+        one, edge, full = (1, ((0,),)), (2, ((0, 1),)), (8, (tuple(range(8)),))
+        asked = [
+            (NoNet, net_of, ((), 1)), (NoNet, cells, (None, 0)), (NoNet, written, (None,)), (NoText, read, ("",)),
+            (NoRound, witness, (edge, ((0, 1),), 1)),
+            (NoRound, alike, (edge, ((0, 1),), (), 1)), (NoRound, alike, (edge, (), ((0, 1),), 1)),
+            (NotFree, taken_off, (one, (0,))), (NotFree, taken_off, (edge, (0, 1))), (NotFree, taken_off, (edge, (5,))),
+            (NoRoom, tip, (full,)), (NoRoom, two_tips, (full,)), (NoRoom, beside, (full, one)),
+            (NoRoom, over, (one, full)),
+            (NoNet, around, (one, 0)), (NoNet, without, (one, 0)), (NoNet, against, (full,)),
+        ]
         for kind, function, given in asked:
             self.assertTrue(caught_by(kind, function, *given), function)
             self.assertTrue(caught_by(HoleError, function, *given), function)

@@ -58,6 +58,20 @@ def bound_names(tree):
     return stored + [node.arg for node in ast.walk(tree) if isinstance(node, ast.arg)]
 
 
+def calls_of(tree, *names):
+    return [
+        node for node in ast.walk(tree)
+        if isinstance(node, ast.Call) and isinstance(node.func, ast.Name) and node.func.id in names
+    ]
+
+
+def joined_by_bits(node):
+    """The parts of an expression with - & | ^ between them."""
+    if isinstance(node, ast.BinOp) and isinstance(node.op, (ast.Sub, ast.BitAnd, ast.BitOr, ast.BitXor)):
+        return joined_by_bits(node.left) + joined_by_bits(node.right)
+    return [node]
+
+
 class Language(unittest.TestCase):
     def test_the_folder_holds_plain_files_alone(self):
         names = [path.name for path in FOLDER.iterdir() if path.name != "__pycache__"]
@@ -140,14 +154,95 @@ class Language(unittest.TestCase):
 
     def test_sets_are_not_kept(self):
         for name, tree in trees():
-            held = [
-                inner for node in ast.walk(tree)
-                if isinstance(node, ast.Call) and isinstance(node.func, ast.Name) and node.func.id in ("sorted", "len")
-                for inner in node.args
-            ]
+            held = []
+            for call in calls_of(tree, "sorted", "len"):
+                held.extend(joined_by_bits(call.args[0]) if call.args and not call.keywords else [])
+            for node in calls_of(tree, "set", "frozenset"):
+                self.assertIn(node, held, (name, node.lineno))
             for node in ast.walk(tree):
-                if isinstance(node, ast.Call) and isinstance(node.func, ast.Name) and node.func.id == "set":
-                    self.assertIn(node, held, (name, node.lineno))
+                self.assertNotIsInstance(node, ast.Set, name)
+
+    def test_a_row_by_itself_is_a_call_and_texts_stand_at_the_top_alone(self):
+        for name, tree in trees():
+            for node in ast.walk(tree):
+                if isinstance(node, ast.Expr) and node is not tree.body[0]:
+                    self.assertIsInstance(node.value, ast.Call, (name, node.lineno))
+            self.assertIsNotNone(ast.get_docstring(tree), name)
+
+    def test_the_top_of_a_file(self):
+        for name, tree in trees():
+            for node in tree.body[1:]:
+                self.assertIsInstance(node, (ast.ImportFrom, ast.FunctionDef, ast.ClassDef, ast.Assign), name)
+                if isinstance(node, ast.Assign):
+                    ast.literal_eval(node.value)
+            for node in ast.walk(tree):
+                if isinstance(node, ast.ClassDef):
+                    self.assertIn(node, tree.body, name)
+
+    def test_plain_parameters_without_annotations(self):
+        for name, tree in trees():
+            for node in ast.walk(tree):
+                if isinstance(node, ast.arguments):
+                    self.assertEqual([], node.posonlyargs + node.kwonlyargs, name)
+                    self.assertEqual((None, None), (node.vararg, node.kwarg), name)
+                if isinstance(node, ast.arg):
+                    self.assertIsNone(node.annotation, name)
+                if isinstance(node, ast.FunctionDef):
+                    self.assertIsNone(node.returns, name)
+
+    def test_no_name_is_given_another_meaning(self):
+        for name, tree in trees():
+            for function in [node for node in ast.walk(tree) if isinstance(node, (ast.FunctionDef, ast.Lambda))]:
+                for each in bound_names(function):
+                    self.assertNotIn(each, top_names(tree), name)
+
+    def test_is_stands_beside_none_and_truths_alone(self):
+        for name, tree in trees():
+            for node in ast.walk(tree):
+                if isinstance(node, ast.Compare) and any(isinstance(each, (ast.Is, ast.IsNot)) for each in node.ops):
+                    written = [side.value for side in [node.left] + node.comparators if isinstance(side, ast.Constant)]
+                    self.assertTrue(any(value in (None, True, False) for value in written), (name, node.lineno))
+
+    def test_what_is_walked_is_walked_at_once(self):
+        for name, tree in trees():
+            walked = []
+            for node in ast.walk(tree):
+                if isinstance(node, (ast.For, ast.comprehension)):
+                    walked.append(node.iter)
+            for call in calls_of(tree, "list", "tuple", "dict", "sorted", "sum", "any", "all", "enumerate", "zip"):
+                walked.extend(call.args[:1])
+            for node in calls_of(tree, "zip", "enumerate", "reversed", "range"):
+                self.assertIn(node, walked, (name, node.lineno))
+
+    def test_own_names_of_python_are_called_and_not_handed_on(self):
+        for name, tree in trees():
+            called = [node.func for node in ast.walk(tree) if isinstance(node, ast.Call)]
+            kinds = [
+                each for call in calls_of(tree, "isinstance")
+                for each in (call.args[1].elts if isinstance(call.args[1], ast.Tuple) else [call.args[1]])
+            ]
+            bases = [each for node in ast.walk(tree) if isinstance(node, ast.ClassDef) for each in node.bases]
+            for node in ast.walk(tree):
+                if isinstance(node, ast.Name) and node.id in BUILTINS:
+                    self.assertIn(node, called + kinds + bases, (name, node.lineno))
+                if isinstance(node, ast.Attribute):
+                    self.assertIn(node, called, (name, node.lineno))
+
+    def test_no_keywords_powers_or_signs_of_filled_in_texts(self):
+        for name, tree in trees():
+            for node in ast.walk(tree):
+                if isinstance(node, ast.Call):
+                    self.assertEqual([], node.keywords, (name, node.lineno))
+                self.assertNotIsInstance(node, ast.Pow, name)
+                if isinstance(node, ast.Constant) and isinstance(node.value, str):
+                    self.assertNotIn("%", node.value, (name, node.lineno))
+
+    def test_refusals_are_made_on_the_spot(self):
+        for name, tree in trees():
+            for node in ast.walk(tree):
+                if isinstance(node, ast.Raise):
+                    self.assertIsInstance(node.exc, ast.Call, (name, node.lineno))
+                    self.assertIn(node.exc.func.id, top_names(tree), (name, node.lineno))
 
 
 if __name__ == "__main__":
